@@ -1,0 +1,1 @@
+"""Sitout: servers that callers leave out."""

@@ -1,0 +1,83 @@
+"""Tests of the interface, and of the form that the files of the package have."""
+
+import ast
+import importlib
+import unittest
+import warnings
+from pathlib import Path
+
+import sitout
+
+FOLDER = Path(sitout.__file__).parent
+
+INTERFACE = {
+    "errors": {
+        "SitError": (), "InvalidRule": (), "InvalidRoad": (), "InvalidEvent": (), "InvalidText": (),
+        "InvalidGoal": (), "InvalidWhat": (), "InvalidSeen": (), "InvalidCommand": (), "Refused": (), "NoEvent": (),
+    },
+    "rules": {"Rule": ("time", "limit", "read", "__eq__", "__str__")},
+    "roads": {"Road": ("upto", "further", "read", "__len__", "__getitem__", "__eq__", "__str__")},
+}
+
+
+def trees():
+    for path in sorted(FOLDER.rglob("*.py")):
+        with warnings.catch_warnings():
+            warnings.simplefilter("error")
+            yield path.name, ast.parse(path.read_text(encoding="ascii"), path.name)
+
+
+class Interface(unittest.TestCase):
+    def test_each_class_is_defined_in_its_file(self):
+        for file, classes in INTERFACE.items():
+            module = importlib.import_module(f"sitout.{file}")
+            tree = ast.parse((FOLDER / f"{file}.py").read_text(encoding="ascii"))
+            defined = [node.name for node in tree.body if isinstance(node, ast.ClassDef)]
+            for name in classes:
+                with self.subTest(name):
+                    self.assertIn(name, defined)
+                    self.assertEqual(getattr(module, name).__module__, f"sitout.{file}")
+
+    def test_each_method_is_defined_in_its_class(self):
+        for file, classes in INTERFACE.items():
+            module = importlib.import_module(f"sitout.{file}")
+            for name, methods in classes.items():
+                for method in methods:
+                    with self.subTest(name=name, method=method):
+                        self.assertIn(method, vars(getattr(module, name)))
+
+    def test_the_package_file_is_empty_but_for_a_docstring(self):
+        tree = ast.parse((FOLDER / "__init__.py").read_text(encoding="ascii"))
+        self.assertEqual(len(tree.body), 1)
+        self.assertTrue(ast.get_docstring(tree))
+
+
+class Form(unittest.TestCase):
+    def test_size_and_characters(self):
+        for path in FOLDER.rglob("*.py"):
+            lines = path.read_text(encoding="ascii").split("\n")
+            with self.subTest(path.name):
+                self.assertLessEqual(len(lines), 400)
+                self.assertLessEqual(max(len(line) for line in lines), 120)
+                self.assertTrue(all(" " <= sign <= "~" for line in lines for sign in line))
+
+    def test_functions_are_small(self):
+        for file, tree in trees():
+            for node in ast.walk(tree):
+                if isinstance(node, ast.FunctionDef):
+                    with self.subTest(file=file, function=node.name):
+                        self.assertLessEqual(node.end_lineno - node.lineno + 1, 40)
+
+    def test_imports_are_of_the_package(self):
+        library = ("heapq", "math", "itertools", "collections")
+        for file, tree in trees():
+            for node in ast.walk(tree):
+                with self.subTest(file=file):
+                    self.assertNotIsInstance(node, ast.Import)
+                    if isinstance(node, ast.ImportFrom):
+                        self.assertEqual(node.level, 0)
+                        self.assertTrue(node.module.startswith("sitout.") or node.module in library, node.module)
+
+
+if __name__ == "__main__":
+    unittest.main()
