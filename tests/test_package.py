@@ -1,7 +1,9 @@
 """Tests of the interface, and of the form that the files of the package have."""
 
 import ast
+import doctest
 import importlib
+import inspect
 import unittest
 import warnings
 from pathlib import Path
@@ -17,6 +19,15 @@ INTERFACE = {
     },
     "rules": {"Rule": ("time", "limit", "read", "__eq__", "__str__")},
     "roads": {"Road": ("upto", "further", "read", "__len__", "__getitem__", "__eq__", "__str__")},
+    "plays": {"Played": ()},
+}
+
+FUNCTIONS = {
+    "standings": {
+        "begun": "()", "step": "(rule, standing, letter)", "letters": "(free=())", "standings": "(rule, free=())",
+    },
+    "plays": {"play": "(rule, road)"},
+    "deciding": {"numbers": "(rule, goal)", "happens": "(rule, goal)", "road": "(rule, goal)"},
 }
 
 
@@ -46,10 +57,27 @@ class Interface(unittest.TestCase):
                     with self.subTest(name=name, method=method):
                         self.assertIn(method, vars(getattr(module, name)))
 
+    def test_each_function_is_defined_in_its_file_with_its_arguments(self):
+        for file, functions in FUNCTIONS.items():
+            module = importlib.import_module(f"sitout.{file}")
+            tree = ast.parse((FOLDER / f"{file}.py").read_text(encoding="ascii"))
+            defined = [node.name for node in tree.body if isinstance(node, ast.FunctionDef)]
+            for name, arguments in functions.items():
+                with self.subTest(file=file, name=name):
+                    self.assertIn(name, defined)
+                    self.assertEqual(str(inspect.signature(getattr(module, name))), arguments)
+
     def test_the_package_file_is_empty_but_for_a_docstring(self):
         tree = ast.parse((FOLDER / "__init__.py").read_text(encoding="ascii"))
         self.assertEqual(len(tree.body), 1)
         self.assertTrue(ast.get_docstring(tree))
+
+
+class Readme(unittest.TestCase):
+    def test_the_examples_hold(self):
+        results = doctest.testfile(str(FOLDER.parent / "README.md"), module_relative=False, encoding="ascii")
+        self.assertGreater(results.attempted, 10)
+        self.assertEqual(results.failed, 0)
 
 
 class Form(unittest.TestCase):
