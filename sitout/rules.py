@@ -1,6 +1,6 @@
 """Rules: when a server is left out, for how long, and how it comes back."""
 
-from sitout.basics import is_from, read_number
+from sitout.basics import is_from, part_of, read_number
 from sitout.errors import InvalidRule, InvalidText
 
 _BACKS = ("half", "open", "trial")
@@ -69,9 +69,7 @@ class Rule:
 
     def limit(self, n):
         """The number of servers that may be left out of n at once."""
-        if self.up:
-            return (n * self.top + self.under - 1) // self.under
-        return n * self.top // self.under
+        return part_of(n, self.top, self.under, self.up)
 
 
 def _wrong_count(need, of, base, more, most, calm):

@@ -18,18 +18,23 @@ def letters(free=()):
 
 def standings(rule, free=()):
     """All standings that can come from the one with which a server begins, ascending."""
+    return tuple(sorted(list(steps(rule, free))))
+
+
+def steps(rule, free):
+    """For each standing that can come, the first one ahead, what each letter brings there, in their order."""
     alphabet = letters(free)
-    seen = set()
-    seen.add(begun())
+    found = {begun(): ()}
     waiting = [begun()]
     while waiting:
         standing = waiting.pop()
-        for letter in alphabet:
-            behind, _ = step(rule, standing, letter)
-            if behind not in seen:
-                seen.add(behind)
+        row = tuple([step(rule, standing, letter) for letter in alphabet])
+        found[standing] = row
+        for behind, _ in row:
+            if behind not in found:
+                found[behind] = ()
                 waiting.append(behind)
-    return tuple(sorted(seen))
+    return found
 
 
 def step(rule, standing, letter):

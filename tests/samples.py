@@ -53,3 +53,13 @@ def values():
 def not_sequences():
     """Values of every kind of which none is a list or a tuple."""
     return [value for value in values() if not isinstance(value, (list, tuple))]
+
+
+def no_whats():
+    """Values of every kind of which none is a word for what is counted."""
+    words = [
+        "Felt", "FELT", "felt ", " felt", "felt\n", "fel", "felts", "miss", "Missed", "missed ", "misse", "skip", "told",
+        "fault", "full", "all", "felt missed",
+    ]
+    rows = [["felt"], ("felt",), ["missed"], ("missed",), ("felt", "missed"), ["felt", "missed"], [["felt"]]]
+    return values() + words + rows

@@ -28,6 +28,17 @@ FUNCTIONS = {
     },
     "plays": {"play": "(rule, road)"},
     "deciding": {"numbers": "(rule, goal)", "happens": "(rule, goal)", "road": "(rule, goal)"},
+    "rates": {
+        "worst": "(rule, what, free=())", "sick": "(rule)", "round_of": "(rule, what, free=())",
+        "longest": "(rule, what, free=())",
+    },
+    "papers": {
+        "paper": "(rule, what, share, free=())", "paper_holds": "(rule, what, share, value, free=())",
+    },
+    "comparing": {
+        "alike": "(p, q, free=())", "parting": "(p, q, free=())", "covers": "(p, q, free=())",
+        "uncovered": "(p, q, free=())",
+    },
 }
 
 
