@@ -21,7 +21,7 @@ class Caller:
     """One caller of a road with its servers, as they are now."""
 
     def __init__(self, rule, servers):
-        self.rule = rule
+        self.kept_rule = rule
         self.places = rule.limit(servers)
         self.now = [begun()] * servers
         self.felt_turns = [0] * servers
@@ -36,7 +36,7 @@ class Caller:
     def take(self, server, word):
         """Lets a turn or a word come for a server; returns the goals that this meets, ascending."""
         room = self.away() < self.places
-        behind, what, kept = move(self.rule, self.now[server], word, room)
+        behind, what, kept = move(self.kept_rule, self.now[server], word, room)
         self.now[server] = behind
         if behind[0] == "out":
             self.ever_out[server] = True

@@ -213,3 +213,18 @@ def all_seen(rule, free, many):
         found.update(further)
         now = further
     return set(found)
+
+
+def look_misfit(rule, seen, free):
+    """The number of the first thing seen that no row of letters brings there, or None."""
+    places = {BEGUN}
+    for at, sight in enumerate(seen):
+        further = set()
+        for standing in {one for place in places for one in heard(rule, place, LETTERS[free])}:
+            for letter in LETTERS[free]:
+                if not letter.startswith("told") and sight == ("skip" if standing[0] == "out" else letter.split()[0]):
+                    further.add(look.look_step(rule, standing, letter)[0])
+        if not further:
+            return at
+        places = further
+    return None

@@ -1,6 +1,9 @@
 """Values of many kinds, for what the document describes for any value."""
 
 from sitout import errors
+from sitout.desk import Desk
+from sitout.live import Live
+from sitout.plays import play
 from sitout.roads import Road
 from sitout.rules import Rule
 
@@ -42,6 +45,7 @@ def not_integers():
         rule(), Road(1, 1), Road(2, 2, ["turn 0 0 ok"]),
         errors.SitError(), errors.InvalidRule("need"), errors.InvalidGoal(), errors.NoEvent(0),
         [rule(), (Road(1, 1),)],
+        Live(rule(), 1, 2), Desk(), play(rule(), Road(1, 1)), [Live(rule(), 1, 1)], (Desk(),),
     ]
 
 

@@ -20,6 +20,12 @@ INTERFACE = {
     "rules": {"Rule": ("time", "limit", "read", "__eq__", "__str__")},
     "roads": {"Road": ("upto", "further", "read", "__len__", "__getitem__", "__eq__", "__str__")},
     "plays": {"Played": ()},
+    "live": {
+        "Live": (
+            "rule", "road", "played", "do", "several", "change", "undo", "trial", "within", "__len__", "__init__",
+        ),
+    },
+    "desk": {"Desk": ("say", "__init__")},
 }
 
 FUNCTIONS = {
@@ -39,6 +45,34 @@ FUNCTIONS = {
         "alike": "(p, q, free=())", "parting": "(p, q, free=())", "covers": "(p, q, free=())",
         "uncovered": "(p, q, free=())",
     },
+    "telling": {
+        "fits": "(rule, seen, free=())", "fitting": "(rules, seen, free=())",
+        "first_misfit": "(rule, seen, free=())",
+    },
+    "mending": {"mends": "(rule, what, share, free=())", "safe_top": "(under, up, spare, start)"},
+}
+
+# The arguments of each method, and of each class when it is made.
+METHODS = {
+    "rules": {
+        "Rule": {
+            "__init__": "(self, need, of, base, more, most, calm, back, top, under, up, hears)", "time": "(self, j)",
+            "limit": "(self, n)",
+        },
+    },
+    "roads": {
+        "Road": {
+            "__init__": "(self, callers, servers, events=())", "upto": "(self, many)", "further": "(self, events)",
+            "__getitem__": "(self, at)",
+        },
+    },
+    "live": {
+        "Live": {
+            "__init__": "(self, rule, callers, servers)", "do": "(self, event)", "several": "(self, events)",
+            "change": "(self, rule)", "undo": "(self)", "trial": "(self)", "within": "(self, work)",
+        },
+    },
+    "desk": {"Desk": {"__init__": "(self)", "say": "(self, command)"}},
 }
 
 
@@ -67,6 +101,14 @@ class Interface(unittest.TestCase):
                 for method in methods:
                     with self.subTest(name=name, method=method):
                         self.assertIn(method, vars(getattr(module, name)))
+
+    def test_each_method_has_its_arguments(self):
+        for file, classes in METHODS.items():
+            module = importlib.import_module(f"sitout.{file}")
+            for name, methods in classes.items():
+                for method, arguments in methods.items():
+                    with self.subTest(name=name, method=method):
+                        self.assertEqual(str(inspect.signature(vars(getattr(module, name))[method])), arguments)
 
     def test_each_function_is_defined_in_its_file_with_its_arguments(self):
         for file, functions in FUNCTIONS.items():
