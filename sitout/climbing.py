@@ -29,11 +29,11 @@ def climb(moves):
     """
     heights = [0] * len(moves)
     best = [None] * len(moves)
-    backwards = list(range(len(moves) - 1, -1, -1))
     changed = True
     while changed:
         changed = False
-        for at in backwards:
+        # The later ones first: most moves lead to a later one.
+        for at in reversed(range(len(moves))):
             for letter, behind, weight in moves[at]:
                 if heights[behind] + weight > heights[at]:
                     heights[at] = heights[behind] + weight
@@ -54,7 +54,7 @@ def _ring(best):
         while best[at] is not None and come_from[at] is None:
             come_from[at] = start
             at = best[at][1]
-        if best[at] is not None and come_from[at] == start:
+        if come_from[at] == start:
             return at, _around(best, at)
     return None
 

@@ -38,7 +38,8 @@ def _shortest(p, q, free, parts):
         at, beside = pair // many, pair % many
         if parts(first_skips[at], second_skips[beside]):
             # Whether a turn is skipped lies in the standing alone, so any turn will do.
-            return (*_row(ahead, pair, first.alphabet), "ok")
+            row = _row(ahead, pair, first.alphabet)
+            return (*row, "ok")
         for place, ((behind, _), (other, _)) in enumerate(zip(first.moves[at], second.moves[beside])):
             further = behind * many + other
             if further not in ahead:

@@ -9,9 +9,11 @@ from sitout.errors import InvalidWhat
 from sitout.papers import paper, paper_holds
 from sitout.rates import round_of, worst
 from sitout.rules import Rule
-from sitout.standings import begun, standings
+from sitout.standings import begun, standings, step
 from tests import look
-from tests.look_rounds import FREES, WHATS, further_heights, look_right, look_worst, read, some_rules, turns
+from tests.look_rounds import (
+    FREES, LETTERS, WHATS, further_heights, look_right, look_worst, read, some_rules, turns,
+)
 from tests.samples import nested, no_whats, values
 
 FAST = Rule.read("leave 2 of 2 out 3 more 0 most 3 calm 0 back open share 1/2 down hears no")
@@ -323,6 +325,33 @@ class HoldsNot(Case):
             ("IN", (), 0, 0), ("off", 1, 1), ("in", (), 0), ("in", (), 0, 0, 0), ("in", None, 0, 0), ("in", (), None, 0),
         ):
             self.holds_not(value + ((other, 10 ** 5),), made, "felt", (1, 1), free)
+
+    def closed(self, made, value, standing):
+        """A paper for the share (1, 1) with a standing, and all that come from it by step, put in at its height."""
+        heights = dict(value)
+        waiting = [standing]
+        while waiting:
+            one = waiting.pop()
+            if one not in heights:
+                heights[one] = 10 ** 5
+                waiting += [step(made, one, letter)[0] for letter in LETTERS[FULL]]
+        return tuple(heights.items())
+
+    def test_all_is_right_but_the_form(self):
+        """By shares of 1 no letter goes down, so all that is missing is the form."""
+        never = Rule.read(str(FAST).replace("1/2", "0/2"))
+        for made in (FAST, GROWING, HALF, never, Rule.read(str(HALF).replace("fault", "no"))):
+            value = tuple((standing, 10 ** 5) for standing, _ in paper(made, "felt", (1, 1), FULL))
+            cap, greatest = made.cap, made.time(made.cap)
+            for good in (("out", greatest, cap), ("out", 1, 1), ("trial", 1), ("trial", cap), ("in", (), cap, 0), begun()):
+                for what in WHATS:
+                    self.assertIs(paper_holds(made, what, (1, 1), self.closed(made, value, good), FULL), True)
+            for bad in (
+                ("out", greatest + 1, cap), ("out", 0, 1), ("out", -1, cap), ("out", 1, 0), ("out", 2, 0), ("out", 1, -1),
+                ("out", 1, cap + 1), ("trial", 0), ("trial", -1), ("trial", cap + 1), ("in", (), cap + 1, 0), ("in", (), -1, 0),
+                ("in", (), 1, -1), ("in", (), 0, -1), ("in", (), 0, 1), ("in", (False,) * (made.of + 1), 0, 0),
+            ):
+                self.holds_not(self.closed(made, value, bad), made, "felt", (1, 1), FULL)
 
     def test_calm_where_the_rule_has_none(self):
         value = paper(FAST, "felt", (1, 1))
